@@ -1,0 +1,1 @@
+"""Towers set on stairs of cells, no two in a row or a column."""
