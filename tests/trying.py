@@ -1,6 +1,6 @@
 """Small stairs and all their towers by trying, and what is refused."""
 
-from itertools import combinations, combinations_with_replacement, product
+from itertools import combinations, combinations_with_replacement, product, zip_longest
 
 NO_STAIRS = [
     None, 3, "12", b"12", (), (1, 2), {}, {1: 2}, {1, 2}, range(3), iter([1]), object(), list,
@@ -39,3 +39,11 @@ def is_way(stairs, many, towers):
     rows = [row for _, row in towers]
     inside = all(0 <= row < stairs[column] for column, row in towers)
     return inside and columns == sorted(set(columns)) and len(set(rows)) == many
+
+
+def first_difference(ways, others):
+    """The first count with other ways, None if there is none; what is missing is 0."""
+    for many, (mine, yours) in enumerate(zip_longest(ways, others, fillvalue=0)):
+        if mine != yours:
+            return many
+    return None
